@@ -1,0 +1,1 @@
+"""Owedonce: what is named is reckoned when asked for, and once."""

@@ -1,0 +1,308 @@
+"""What several tests need: terms of told sizes, another reckoner to compare with, chance programs."""
+
+import random
+
+from owedonce.errors import Stuck, TooMany
+
+PADS = ("pa", "pb", "pc", "pd", "pe", "pf", "pg", "ph", "pi", "pj", "pk", "pl")
+
+
+def num(n):
+    return ("num", n)
+
+
+def name(x):
+    return ("name", x)
+
+
+def lets(pairs, body):
+    """Lets one within another: each pair a name and its term."""
+    for x, term in reversed(pairs):
+        body = ("let", x, term, body)
+    return body
+
+
+def unused(many, body):
+    """The body within so many lets that nothing asks."""
+    return lets([("unused", num(0))] * many, body)
+
+
+def pick(word, *branches):
+    return ("by", word, tuple(branches))
+
+
+def told(call, *given, **named):
+    """What a call tells, or its refusal with its field."""
+    try:
+        return ("told", call(*given, **named))
+    except TooMany:
+        return ("TooMany",)
+    except Stuck as stuck:
+        return ("Stuck", stuck.number)
+
+
+def fewest(call, program, look, most=1 << 20):
+    """The least limit with which a run isn't TooMany: how many pieces it takes."""
+    low, high = 0, most
+    while low < high:
+        middle = (low + high) // 2
+        if told(call, program, look, limit=middle) == ("TooMany",):
+            low = middle + 1
+        else:
+            high = middle
+    return low
+
+
+def lasting(pieces):
+    """A program of the worth 0 that takes just so many pieces by the look 1, plainly and late."""
+    body, left = num(0), pieces - 3
+    costs = [6 * 2 ** k - 2 for k in range(12)]
+    for pad, cost in reversed(list(zip(PADS, costs))):
+        while left >= cost:
+            body, left = ("now", "unused", ("call", pad, "pa"), body), left - cost
+    body = unused(left, body)
+    funs = [("pa", ("fun", "x", num(0)))]
+    for before, pad in zip(PADS, PADS[1:]):
+        once = ("call", before, "pa")
+        funs.append((pad, ("fun", "x", ("now", "unused", once, once))))
+    return ("letall", tuple(funs[:6]), ("letall", tuple(funs[6:]), body))
+
+
+def nested(k):
+    """A program of the worth 2 ** k, in which as many askings stand within one another."""
+    funs = ["twice" + letter for letter in "abcdefghijklmn"[:k + 1]]
+    body = ("call", funs[k], "zero")
+    for at in range(k, 0, -1):
+        twice = ("let", "u", ("call", funs[at - 1], "x"), ("call", funs[at - 1], "u"))
+        body = ("letall", ((funs[at], ("fun", "x", twice)),), body)
+    body = ("letall", ((funs[0], ("fun", "x", ("sum", "x", "one"))),), body)
+    return lets([("one", num(1)), ("zero", num(0))], body)
+
+
+def deep(k):
+    """A program whose longest number of a let has k + 1 parts."""
+    again = lets([("m", ("minus", "k", "one")), ("r", ("call", "deep", "m"))], name("r"))
+    body = ("let", "end", ("less", "k", "one"), pick("end", ("yes", (), num(7)), ("no", (), again)))
+    call = lets([("k", num(k))], ("call", "deep", "k"))
+    return lets([("one", num(1))], ("letall", (("deep", ("fun", "k", body)),), call))
+
+
+def nines(body):
+    """The body, in which n stands for 10 ** 60 - 1, and one and zero for 1 and 0."""
+    ten = ("fun", "x", lets([
+        ("d", ("sum", "x", "x")), ("q", ("sum", "d", "d")), ("e", ("sum", "q", "q")),
+        ("t", ("sum", "e", "d"))], ("sum", "t", "nine")))
+    six = name("x")
+    for _ in range(6):
+        six = ("let", "x", ("call", "ten", "x"), six)
+    for _ in range(7):
+        body = ("let", "n", ("call", "six", "n"), body)
+    body = ("letall", (("ten", ten), ("six", ("fun", "x", six))), body)
+    return lets([("zero", num(0)), ("one", num(1)), ("nine", num(9)), ("n", num(10 ** 18 - 1))], body)
+
+
+class Reckoner:
+    """Goings once more, by Python's own calls: kept, late, by their numbers."""
+
+    def __init__(self, is_late, limit):
+        self.is_late = is_late
+        self.left = limit
+        self.kept = {}
+        self.rows = {}
+
+    def piece(self):
+        if not self.left:
+            raise TooMany()
+        self.left -= 1
+
+    def force(self, ref):
+        if ref[0] == "stands":
+            return ref[1]
+        _, number, term, env = ref
+        if number in self.kept:
+            return self.kept[number]
+        worth = self.begin(number, term, env)
+        if self.is_late:
+            self.kept[number] = worth
+        return worth
+
+    def begin(self, number, term, env):
+        self.rows.setdefault(number, [0, set()])
+        return self.go([number, 0], term, env)
+
+    def ask(self, going, env, x):
+        self.piece()
+        if env[x][0] == "put":
+            self.rows[going[0]][1].add(env[x][1])
+        return self.force(env[x])
+
+    def number(self, going, env, x):
+        worth = self.ask(going, env, x)
+        if not isinstance(worth, int):
+            raise Stuck(going[0])
+        return worth
+
+    def put(self, going, term, env):
+        going[1] += 1
+        number = (*going[0], going[1])
+        if len(number) > 100:
+            raise TooMany()
+        return ("put", number, term, env)
+
+    def worth(self, term, env):
+        if term[0] == "fun":
+            return ("fun", term[1], term[2], env)
+        return ("made", term[1], [env[x] for x in term[2]])
+
+    def go(self, going, term, env):
+        self.piece()
+        sort = term[0]
+        if sort == "num":
+            return term[1]
+        if sort in ("fun", "made"):
+            return self.worth(term, env)
+        if sort == "name":
+            return self.ask(going, env, term[1])
+        if sort == "call":
+            fun = self.ask(going, env, term[1])
+            if isinstance(fun, int) or fun[0] != "fun":
+                raise Stuck(going[0])
+            self.rows[going[0]][0] += 1
+            return self.go(going, fun[2], {**fun[3], fun[1]: env[term[2]]})
+        if sort in ("let", "now"):
+            ref = self.put(going, term[2], env)
+            if sort == "now":
+                self.rows[going[0]][1].add(ref[1])
+                self.force(ref)
+            return self.go(going, term[3], {**env, term[1]: ref})
+        if sort == "letall":
+            env = {**env, **{x: ["stands", None] for x, _ in term[1]}}
+            for x, w in term[1]:
+                env[x][1] = self.worth(w, env)
+            return self.go(going, term[2], env)
+        if sort == "by":
+            made = self.ask(going, env, term[1])
+            for word, xs, inner in term[2]:
+                if not isinstance(made, int) and made[:2] == ("made", word) and len(xs) == len(made[2]):
+                    return self.go(going, inner, {**env, **dict(zip(xs, made[2]))})
+            raise Stuck(going[0])
+        return self.reckon(going, env, *term)
+
+    def reckon(self, going, env, sort, x, y):
+        first = self.number(going, env, x)
+        second = self.number(going, env, y)
+        if sort in ("less", "same"):
+            return ("made", "yes" if (first < second if sort == "less" else first == second) else "no", [])
+        worth = first + second if sort == "sum" else first - second
+        if worth >= 10 ** 60 or worth < -10 ** 60 + 1:
+            raise TooMany()
+        return worth
+
+    def seen(self, worth, look):
+        if isinstance(worth, int):
+            return worth
+        if worth[0] == "fun":
+            return ("fun",)
+        out = []
+        for at, ref in enumerate(worth[2]):
+            if isinstance(look, int):
+                part = look - 1
+            else:
+                part = look[at] if at < len(look) else None
+            if part is None or part == 0:
+                out.append(None)
+                continue
+            self.piece()
+            out.append(self.seen(self.force(ref), part))
+        return (worth[1], tuple(out))
+
+    def run(self, program, look):
+        if look is None or look == 0:
+            return (None, 0)
+        seen = self.seen(self.begin((), program, {}), look)
+        return (seen, sum(steps for steps, _ in self.rows.values()))
+
+
+def other_plain(program, look, limit):
+    return Reckoner(False, limit).run(program, look)
+
+
+def other_late(program, look, limit):
+    return Reckoner(True, limit).run(program, look)
+
+
+def other_rows(program, look, limit):
+    reckoner = Reckoner(True, limit)
+    reckoner.run(program, look)
+    return sorted((number, steps, sorted(asked)) for number, (steps, asked) in reckoner.rows.items())
+
+
+class Chance:
+    """Programs by chance, always the same ones of a seed; most of them don't stick."""
+
+    def __init__(self, seed):
+        self.random = random.Random(seed)
+
+    def program(self):
+        scope = {"one": "n", "ones": "l", "down": "f"}
+        more = lets([("k", ("minus", "n", "one")), ("r", ("call", "down", "k"))], ("sum", "r", "n"))
+        down = ("let", "t", ("less", "n", "one"), pick("t", ("yes", (), num(0)), ("no", (), more)))
+        ones = ("made", "cons", ("one", "ones"))
+        body = self.term(self.random.choice("nnnllllbf"), scope, 9)
+        return lets([("one", num(1))], ("letall", (("ones", ones), ("down", ("fun", "n", down))), body))
+
+    def look(self, within=3):
+        if within and self.random.random() < 0.4:
+            return tuple(self.look(within - 1) for _ in range(self.random.randrange(4)))
+        return self.random.choice((None, 0, 1, 2, 3, 5))
+
+    def with_name(self, kind, scope, depth, build):
+        if self.random.random() < 0.03:
+            kind = self.random.choice("nblf")
+        names = sorted(x for x in scope if scope[x] == kind)
+        if names and self.random.random() < 0.6:
+            return build(self.random.choice(names), scope)
+        x = self.random.choice("abcdefgh")
+        sort = "now" if self.random.random() < 0.3 else "let"
+        return (sort, x, self.term(kind, scope, depth - 1), build(x, {**scope, x: kind}))
+
+    def leaf(self, kind):
+        if kind == "n":
+            return num(self.random.randrange(-3, 12))
+        if kind == "b":
+            return ("made", self.random.choice(("yes", "no")), ())
+        if kind == "l":
+            return ("made", "nil", ())
+        return ("fun", "x", name("x"))
+
+    def term(self, kind, scope, depth):
+        if depth <= 0:
+            return self.leaf(kind)
+        way = self.random.randrange(6)
+        if way == 0:
+            return self.with_name(kind, scope, depth, lambda x, _: name(x))
+        if way == 1:
+            return self.with_name("b", scope, depth, lambda x, inner: pick(
+                x, *[(word, (), self.term(kind, inner, depth - 2)) for word in ("yes", "no")]))
+        if way == 2:
+            return self.with_name("l", scope, depth, lambda x, inner: pick(
+                x, ("nil", (), self.term(kind, inner, depth - 2)),
+                ("cons", ("a", "b"), self.term(kind, {**inner, "a": "n", "b": "l"}, depth - 2))))
+        if way == 3 and kind in "nb":
+            sorts = ("sum", "minus") if kind == "n" else ("less", "same")
+            sort = self.random.choice(sorts)
+            return self.with_name("n", scope, depth, lambda x, inner: self.with_name(
+                "n", inner, depth - 1, lambda y, _: (sort, x, y)))
+        return self.of_kind(kind, scope, depth)
+
+    def of_kind(self, kind, scope, depth):
+        if kind == "n":
+            return self.with_name("f", scope, depth, lambda f, inner: self.with_name(
+                "n", {**inner, f: "f"}, depth - 1, lambda x, _: ("call", f, x)))
+        if kind == "l":
+            return self.with_name("n", scope, depth, lambda x, inner: self.with_name(
+                "l", inner, depth - 1, lambda y, _: ("made", "cons", (x, y))))
+        if kind == "f":
+            x = self.random.choice("abcdefgh")
+            return ("fun", x, self.term("n", {**scope, x: "n"}, depth - 1))
+        return self.leaf(kind)

@@ -1,0 +1,61 @@
+"""The interface as it is listed, and what LANGUAGE.md says of sizes, signs and imports."""
+
+import ast
+import pathlib
+import unittest
+
+PACKAGE = pathlib.Path(__file__).resolve().parent.parent / "owedonce"
+
+INTERFACE = {
+    "terms": {"is_name": ["thing"], "is_term": ["thing"], "is_program": ["thing"], "free_names": ["term"]},
+    "plainly": {"plain": ["program", "look", "*", "limit"]},
+    "late": {"late": ["program", "look", "*", "limit"], "rows": ["program", "look", "*", "limit"]},
+}
+
+
+def files():
+    return sorted(PACKAGE.iterdir())
+
+
+def tree_of(path):
+    return ast.parse(path.read_text())
+
+
+def arguments(function):
+    given = [one.arg for one in function.args.args]
+    alone = [one.arg for one in function.args.kwonlyargs]
+    return given + ["*"] + alone if alone else given
+
+
+class LanguageTest(unittest.TestCase):
+
+    def test_each_function_stands_in_its_file_with_its_arguments(self):
+        for name, functions in INTERFACE.items():
+            body = tree_of(PACKAGE / (name + ".py")).body
+            found = {one.name: arguments(one) for one in body if isinstance(one, ast.FunctionDef)}
+            for function, given in functions.items():
+                self.assertEqual(found[function], given)
+
+    def test_the_folder_holds_files_of_python_alone(self):
+        names = [path.name for path in files() if path.name != "__pycache__"]
+        self.assertIn("__init__.py", names)
+        for name in names:
+            self.assertRegex(name, r"^(__init__|__main__|[a-z]+)\.py$")
+
+    def test_sizes_and_signs(self):
+        for path in PACKAGE.glob("*.py"):
+            text = path.read_text()
+            rows = text.split("\n")
+            self.assertLessEqual(len(rows), 399, path)
+            self.assertRegex(text, r"^[\n -~]*$", path)
+            self.assertLessEqual(max(len(row) for row in rows), 120, path)
+            for node in ast.walk(tree_of(path)):
+                if isinstance(node, ast.FunctionDef):
+                    self.assertLessEqual(node.end_lineno - node.lineno + 1, 40, (path, node.name))
+
+    def test_imports_are_of_the_package_by_full_names(self):
+        for path in PACKAGE.glob("*.py"):
+            for node in ast.walk(tree_of(path)):
+                self.assertNotIsInstance(node, ast.Import, path)
+                if isinstance(node, ast.ImportFrom):
+                    self.assertEqual((node.module.split(".")[0], node.level), ("owedonce", 0), path)
