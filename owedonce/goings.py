@@ -5,7 +5,7 @@ what it is told, the last first. So askings may stand within one another however
 no call of Python's stands open meanwhile.
 """
 
-from owedonce.errors import Stuck, TooMany
+from owedonce.errors import Lost, Missing, Stuck, TooMany
 
 LIMIT = 20000
 MOST_NUMBER_PARTS = 100
@@ -32,7 +32,8 @@ class Made:
 class Cell:
     """What a name stands for: a reckoning put by, its worth, or both.
 
-    What stands as it is, without a reckoning, has None as its number.
+    What stands as it is, without a reckoning, has None as its number. A part of an
+    input has a place; all else has None there.
     """
 
     def __init__(self, number, term, env):
@@ -40,6 +41,11 @@ class Cell:
         self.term = term
         self.env = env
         self.worth = None
+        self.place = None
+
+    def throw_away(self):
+        self.term = None
+        self.env = None
 
 
 class Going:
@@ -56,15 +62,19 @@ class Store:
     """All that one run has: its pieces and steps, its goings, what is still to be done.
 
     It keeps the worth of a reckoning (late), or it doesn't (plainly). The worth is the
-    one that came last.
+    one that came last. A seer, where there is one, says of each let that comes up whether
+    it is reckoned at once.
     """
 
-    def __init__(self, limit, keeps):
+    def __init__(self, limit, keeps, seer=None):
         self.limit = limit
         self.keeps = keeps
+        self.seer = seer
         self.pieces = 0
         self.steps = 0
         self.goings = []
+        self.nows = {}
+        self.places = {}
         self.todo = []
         self.worth = None
 
@@ -79,6 +89,11 @@ class Store:
         if self.keeps:
             self.goings.append(going)
         return going
+
+    def let_numbers(self):
+        """The numbers of the lets, no nows, that were gone into, rising."""
+        numbers = [going.number for going in self.goings if going.number != ()]
+        return sorted([number for number in numbers if number not in self.nows])
 
     def rows(self):
         return sorted([(going.number, going.steps, sorted(going.asked)) for going in self.goings])
@@ -96,6 +111,13 @@ def stands_for(env, name):
     return env[1]
 
 
+def ready(worth):
+    """A cell of what stands as it is."""
+    cell = Cell(None, None, None)
+    cell.worth = worth
+    return cell
+
+
 def put_by(going, term, env):
     """The cell of a let or now that comes up in a going."""
     if len(going.number) >= MOST_NUMBER_PARTS:
@@ -106,9 +128,15 @@ def put_by(going, term, env):
 
 def demand(store, cell):
     """Have the worth of a cell: gone into, where it isn't ready."""
+    if cell.place is not None:
+        store.places[cell.place] = True
     if cell.worth is not None:
         store.worth = cell.worth
         return
+    if cell.place is not None:
+        raise Missing(cell.place)
+    if cell.term is None:
+        raise Lost(cell.number)
     if store.keeps:
         store.todo.append((_keep, (cell,)))
     store.todo.append((enter, (store.begin(cell.number), cell.term, cell.env)))
@@ -118,13 +146,17 @@ def _keep(store, cell):
     cell.worth = store.worth
 
 
-def ask(store, going, env, name):
-    """A name is asked by a going."""
+def ask_cell(store, going, cell):
+    """What a name stands for, or a part, is asked by a going."""
     store.count_piece()
-    cell = stands_for(env, name)
     if cell.number is not None:
         going.asked[cell.number] = True
     demand(store, cell)
+
+
+def ask(store, going, env, name):
+    """A name is asked by a going."""
+    ask_cell(store, going, stands_for(env, name))
 
 
 def worth_of(term, env):
@@ -147,11 +179,12 @@ def _enter_name(store, going, term, env):
 
 
 def _enter_call(store, going, term, env):
-    store.todo.append((_call, (going, stands_for(env, term[2]))))
+    store.todo.append((call, (going, stands_for(env, term[2]))))
     ask(store, going, env, term[1])
 
 
-def _call(store, going, cell):
+def call(store, going, cell):
+    """The worth that came is called, its name standing for what the cell has."""
     called = store.worth
     if not isinstance(called, Fun):
         raise Stuck(going.number)
@@ -163,12 +196,23 @@ def _call(store, going, cell):
 def _enter_let(store, going, term, env):
     cell = put_by(going, term[2], env)
     store.todo.append((enter, (going, term[3], bound(env, term[1], cell))))
+    if store.seer is not None:
+        _see_to(store, cell)
+
+
+def _see_to(store, cell):
+    """What a seer says of a let is done: no asking, so no piece, and in no row."""
+    if store.seer.says(cell.number):
+        demand(store, cell)
+    else:
+        cell.throw_away()
 
 
 def _enter_now(store, going, term, env):
     cell = put_by(going, term[2], env)
     # It is in the row of the going like what is asked, though it is no asking: no piece.
     going.asked[cell.number] = True
+    store.nows[cell.number] = True
     store.todo.append((enter, (going, term[3], bound(env, term[1], cell))))
     demand(store, cell)
 
@@ -176,7 +220,7 @@ def _enter_now(store, going, term, env):
 def _enter_letall(store, going, term, env):
     cells = []
     for name, _ in term[1]:
-        cell = Cell(None, None, None)
+        cell = ready(None)
         cells.append(cell)
         env = bound(env, name, cell)
     for cell, pair in zip(cells, term[1]):

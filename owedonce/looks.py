@@ -1,6 +1,15 @@
 """Looks: what is seen of a program's worth, the head first, then the parts."""
 
-from owedonce.goings import Made, Fun, demand, do_all, enter
+from owedonce.goings import Fun, Made, demand, do_all, enter
+
+
+def seen_head(worth):
+    """What is seen of a worth where none of its parts is looked at."""
+    if isinstance(worth, Fun):
+        return ("fun",)
+    if isinstance(worth, Made):
+        return (worth.word, tuple([None for _ in worth.parts]))
+    return worth
 
 
 def _is_none(look):
@@ -17,15 +26,13 @@ def _part_look(look, at):
 def _see(store, look, seen):
     """The worth that came is seen: put behind the list seen, perhaps after its parts."""
     worth = store.worth
-    if isinstance(worth, Fun):
-        seen.append(("fun",))
-    elif isinstance(worth, Made):
-        parts = []
-        store.todo.append((_see_made, (worth.word, parts, seen)))
-        for at in reversed(range(len(worth.parts))):
-            store.todo.append((_see_part, (worth.parts[at], _part_look(look, at), parts)))
-    else:
-        seen.append(worth)
+    if not isinstance(worth, Made):
+        seen.append(seen_head(worth))
+        return
+    parts = []
+    store.todo.append((_see_made, (worth.word, parts, seen)))
+    for at in reversed(range(len(worth.parts))):
+        store.todo.append((_see_part, (worth.parts[at], _part_look(look, at), parts)))
 
 
 def _see_made(store, word, parts, seen):
@@ -42,12 +49,12 @@ def _see_part(store, cell, look, seen):
     demand(store, cell)
 
 
-def look_at(store, program, look):
-    """Go into a program as far as a look asks; told is what is seen."""
+def look_at(store, term, look, env=None):
+    """Go into a term, as the going (), as far as a look asks; told is what is seen."""
     if _is_none(look):
         return None
     seen = []
     store.todo.append((_see, (look, seen)))
-    store.todo.append((enter, (store.begin(()), program, None)))
+    store.todo.append((enter, (store.begin(()), term, env)))
     do_all(store)
     return seen[0]

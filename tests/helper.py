@@ -1,8 +1,10 @@
 """What several tests need: terms of told sizes, another reckoner to compare with, chance programs."""
 
 import random
+import sys
+import unittest
 
-from owedonce.errors import Stuck, TooMany
+from owedonce.errors import Lost, Missing, Stuck, TooMany
 
 PADS = ("pa", "pb", "pc", "pd", "pe", "pf", "pg", "ph", "pi", "pj", "pk", "pl")
 
@@ -39,27 +41,37 @@ def told(call, *given, **named):
         return ("TooMany",)
     except Stuck as stuck:
         return ("Stuck", stuck.number)
+    except Lost as lost:
+        return ("Lost", lost.number)
+    except Missing as missing:
+        return ("Missing", missing.place)
 
 
-def fewest(call, program, look, most=1 << 20):
+def fewest(call, *given, most=1 << 20):
     """The least limit with which a run isn't TooMany: how many pieces it takes."""
     low, high = 0, most
     while low < high:
         middle = (low + high) // 2
-        if told(call, program, look, limit=middle) == ("TooMany",):
+        if told(call, *given, limit=middle) == ("TooMany",):
             low = middle + 1
         else:
             high = middle
     return low
 
 
-def lasting(pieces):
-    """A program of the worth 0 that takes just so many pieces by the look 1, plainly and late."""
-    body, left = num(0), pieces - 3
+def lasting(pieces, body=num(0)):
+    """A body that takes one piece, as a program that takes just so many, plainly, late and by each seer.
+
+    No let comes up in it, or a single one, where one piece is left over.
+    """
+    left = pieces - 3
     costs = [6 * 2 ** k - 2 for k in range(12)]
     for pad, cost in reversed(list(zip(PADS, costs))):
         while left >= cost:
             body, left = ("now", "unused", ("call", pad, "pa"), body), left - cost
+    for cost, term in ((3, name("pa")), (2, num(0))):
+        if left >= cost:
+            body, left = ("now", "unused", term, body), left - cost
     body = unused(left, body)
     funs = [("pa", ("fun", "x", num(0)))]
     for before, pad in zip(PADS, PADS[1:]):
@@ -101,14 +113,33 @@ def nines(body):
     return lets([("zero", num(0)), ("one", num(1)), ("nine", num(9)), ("n", num(10 ** 18 - 1))], body)
 
 
-class Reckoner:
-    """Goings once more, by Python's own calls: kept, late, by their numbers."""
+class ReckonerTest(unittest.TestCase):
+    """Tests that use the other reckoner: it goes into what is asked by Python's own calls."""
 
-    def __init__(self, is_late, limit):
+    @classmethod
+    def setUpClass(cls):
+        cls.before = sys.getrecursionlimit()
+        sys.setrecursionlimit(20000)
+
+    @classmethod
+    def tearDownClass(cls):
+        sys.setrecursionlimit(cls.before)
+
+
+class Reckoner:
+    """Goings once more, by Python's own calls: kept, late, by their numbers.
+
+    Says, where it is told, is what a seer says of a let's number.
+    """
+
+    def __init__(self, is_late, limit, says=None):
         self.is_late = is_late
         self.left = limit
+        self.says = says
         self.kept = {}
         self.rows = {}
+        self.nows = set()
+        self.places = set()
 
     def piece(self):
         if not self.left:
@@ -118,6 +149,10 @@ class Reckoner:
     def force(self, ref):
         if ref[0] == "stands":
             return ref[1]
+        if ref[0] == "away":
+            raise Lost(ref[1])
+        if ref[0] == "part":
+            return self.part(*ref[1:])
         _, number, term, env = ref
         if number in self.kept:
             return self.kept[number]
@@ -126,15 +161,26 @@ class Reckoner:
             self.kept[number] = worth
         return worth
 
+    def part(self, place, given):
+        self.places.add(place)
+        if given is None:
+            raise Missing(place)
+        if isinstance(given, int):
+            return given
+        return ("made", given[0], [("part", (*place, at), one) for at, one in enumerate(given[1])])
+
     def begin(self, number, term, env):
         self.rows.setdefault(number, [0, set()])
         return self.go([number, 0], term, env)
 
     def ask(self, going, env, x):
+        return self.ask_ref(going, env[x])
+
+    def ask_ref(self, going, ref):
         self.piece()
-        if env[x][0] == "put":
-            self.rows[going[0]][1].add(env[x][1])
-        return self.force(env[x])
+        if ref[0] == "put":
+            self.rows[going[0]][1].add(ref[1])
+        return self.force(ref)
 
     def number(self, going, env, x):
         worth = self.ask(going, env, x)
@@ -164,16 +210,17 @@ class Reckoner:
         if sort == "name":
             return self.ask(going, env, term[1])
         if sort == "call":
-            fun = self.ask(going, env, term[1])
-            if isinstance(fun, int) or fun[0] != "fun":
-                raise Stuck(going[0])
-            self.rows[going[0]][0] += 1
-            return self.go(going, fun[2], {**fun[3], fun[1]: env[term[2]]})
+            return self.called(going, self.ask(going, env, term[1]), env[term[2]])
         if sort in ("let", "now"):
             ref = self.put(going, term[2], env)
             if sort == "now":
+                self.nows.add(ref[1])
                 self.rows[going[0]][1].add(ref[1])
                 self.force(ref)
+            elif self.says and self.says(ref[1]):
+                self.force(ref)
+            elif self.says:
+                ref = ("away", ref[1])
             return self.go(going, term[3], {**env, term[1]: ref})
         if sort == "letall":
             env = {**env, **{x: ["stands", None] for x, _ in term[1]}}
@@ -187,6 +234,12 @@ class Reckoner:
                     return self.go(going, inner, {**env, **dict(zip(xs, made[2]))})
             raise Stuck(going[0])
         return self.reckon(going, env, *term)
+
+    def called(self, going, fun, ref):
+        if isinstance(fun, int) or fun[0] != "fun":
+            raise Stuck(going[0])
+        self.rows[going[0]][0] += 1
+        return self.go(going, fun[2], {**fun[3], fun[1]: ref})
 
     def reckon(self, going, env, sort, x, y):
         first = self.number(going, env, x)
@@ -216,11 +269,39 @@ class Reckoner:
             out.append(self.seen(self.force(ref), part))
         return (worth[1], tuple(out))
 
-    def run(self, program, look):
+    def steps(self):
+        return sum(steps for steps, _ in self.rows.values())
+
+    def told_rows(self):
+        return sorted((number, steps, sorted(asked)) for number, (steps, asked) in self.rows.items())
+
+    def run(self, program, look, env=None):
         if look is None or look == 0:
             return (None, 0)
-        seen = self.seen(self.begin((), program, {}), look)
-        return (seen, sum(steps for steps, _ in self.rows.values()))
+        seen = self.seen(self.begin((), program, env or {}), look)
+        return (seen, self.steps())
+
+    def deed(self, k, program, version, n):
+        """What a look 1 tells of the answer, and the worth of the version."""
+        going = [(k,), 0]
+        self.rows[(k,)] = [0, set()]
+        worth = self.go(going, program, {})
+        for one in (version, n):
+            worth = self.called(going, worth, ("stands", one))
+        if isinstance(worth, int) or worth[:2] != ("made", "out") or len(worth[2]) != 2:
+            raise Stuck((k,))
+        first, second = worth[2]
+        answer = self.ask_ref(going, first)
+        return self.seen(answer, ()), self.ask_ref(going, second)
+
+
+def stripped(given, places, place=()):
+    """An input with None in the place of each part that isn't among the places."""
+    if place not in places:
+        return None
+    if isinstance(given, int):
+        return given
+    return (given[0], tuple(stripped(part, places, (*place, at)) for at, part in enumerate(given[1])))
 
 
 def other_plain(program, look, limit):
@@ -234,21 +315,157 @@ def other_late(program, look, limit):
 def other_rows(program, look, limit):
     reckoner = Reckoner(True, limit)
     reckoner.run(program, look)
-    return sorted((number, steps, sorted(asked)) for number, (steps, asked) in reckoner.rows.items())
+    return reckoner.told_rows()
+
+
+def other_least(program, look, limit):
+    reckoner = Reckoner(True, limit)
+    reckoner.run(program, look)
+    return sorted(set(reckoner.rows) - reckoner.nows - {()}), reckoner.steps()
+
+
+def other_seer(program, numbers, look, limit):
+    return Reckoner(True, limit, lambda number: number in numbers).run(program, look)
+
+
+def other_seer_rows(program, numbers, look, limit):
+    reckoner = Reckoner(True, limit, lambda number: number in numbers)
+    reckoner.run(program, look)
+    return reckoner.told_rows()
+
+
+class Unsaid(Exception):
+    """A let comes up of which nothing is said."""
+
+
+def other_all_seers(program, look, most, limit):
+    """All ways, found by running anew with one more let said each time; rising by their numbers."""
+    found, todo, many = [], [{}], 0
+
+    def says(number):
+        if number not in said:
+            raise Unsaid(number)
+        return said[number]
+
+    while todo:
+        said = todo.pop()
+        many += 1
+        if many + len(todo) > most:
+            raise TooMany()
+        try:
+            seen, steps = Reckoner(True, limit, says).run(program, look)
+            found.append((sorted(number for number in said if said[number]), seen, steps))
+        except Unsaid as unsaid:
+            many -= 1
+            todo += [{**said, unsaid.args[0]: True}, {**said, unsaid.args[0]: False}]
+        except (Lost, Stuck):
+            pass
+    return sorted(found, key=lambda way: way[0])
+
+
+def other_on(function, given, look, limit):
+    return Reckoner(True, limit).run(function[2], look, {function[1]: ("part", (), given)})
+
+
+def other_parts(function, given, look, limit):
+    reckoner = Reckoner(True, limit)
+    reckoner.run(function[2], look, {function[1]: ("part", (), given)})
+    return sorted(reckoner.places)
+
+
+def other_shop(shop, history, order, limit):
+    """What run tells, and what ledger would tell of just these deeds in this order."""
+    reckoner = Reckoner(True, limit)
+    versions = {0: reckoner.begin((0,), shop[0], {})}
+    at_start = set(reckoner.rows)
+    answers = []
+    for k in order:
+        name_, version, n = history[k - 1]
+        before = reckoner.steps()
+        answer, versions[k] = reckoner.deed(k, dict(shop[1])[name_], versions[version], n)
+        answers.append((answer, reckoner.steps() - before))
+    deeds, numbers = [], []
+    for number, steps, asked in reckoner.told_rows():
+        if len(number) > 1:
+            numbers.append((number, 0 if number in at_start else steps, asked))
+        elif number != (0,):
+            deeds.append((history[number[0] - 1][1], steps, asked))
+    return answers, (deeds, numbers)
+
+
+def other_run(shop, history, order, limit):
+    return other_shop(shop, history, order, limit)[0]
+
+
+def other_ledger(shop, history, limit):
+    return other_shop(shop, history, range(1, len(history) + 1), limit)[1]
 
 
 class Chance:
-    """Programs by chance, always the same ones of a seed; most of them don't stick."""
+    """Programs, functions and shops by chance, always the same ones of a seed; most of them don't stick."""
+
+    SCOPE = {"one": "n", "ones": "l", "down": "f"}
 
     def __init__(self, seed):
         self.random = random.Random(seed)
 
-    def program(self):
-        scope = {"one": "n", "ones": "l", "down": "f"}
+    def program(self, depth=9):
+        return self.within_scope(self.term(self.random.choice("nnnllllbf"), self.SCOPE, depth))
+
+    def function(self, kind):
+        """A function of an input of a kind."""
+        scope = {**self.SCOPE, "x": kind, "y": kind}
+        body = self.term(self.random.choice("nnnlllb"), scope, 8)
+        if kind == "l" and self.random.random() < 0.7:
+            inner = self.term(self.random.choice("nnnlllb"), {**scope, "x": "n", "y": "l"}, 6)
+            body = pick("x", ("nil", (), num(0)), ("cons", ("x", "y"), inner))
+        return ("fun", "x", self.within_scope(("let", "y", name("x"), body)))
+
+    def given(self, kind, within=6):
+        """An input of a kind, now and then with parts that nobody has."""
+        if self.random.random() < 0.1:
+            return None
+        if kind == "n":
+            return self.random.randrange(-3, 12)
+        if within == 0 or self.random.random() < 0.2:
+            return ("nil", ())
+        return ("cons", (self.given("n"), self.given("l", within - 1)))
+
+    def shop(self):
+        """A shop the versions of which are lists."""
+        deeds = tuple((word, self.deed()) for word in ("ab", "cd", "ef")[:self.random.randrange(1, 4)])
+        return (self.within_scope(self.term("l", self.SCOPE, 5)), deeds)
+
+    def deed(self):
+        """It may ask what a version's head is, and what it tells of itself may be owed."""
+        scope = {**self.SCOPE, "v": "l", "n": "n", "p": "n", "h": "n"}
+        sort = self.random.choice(("let", "let", "let", "now"))
+        word = "out" if self.random.random() < 0.98 else "in"
+        answer = self.random.choice((name("p"), self.term(self.random.choice("nnlbf"), scope, 6)))
+        behind = self.random.choice((name("v"), ("made", "cons", ("h", "v")), self.term("l", scope, 6)))
+        head = pick("v", ("nil", (), num(0)), ("cons", ("a", "b"), name("a")))
+        body = (sort, "q", answer, ("let", "r", behind, ("made", word, ("q", "r"))))
+        body = lets([("h", ("call", "down", "n")), ("p", head)], body)
+        return ("fun", "v", ("fun", "n", self.within_scope(body)))
+
+    def history(self, shop, most=7):
+        names = [deed[0] for deed in shop[1]]
+        return [(self.random.choice(names), self.random.randrange(k), self.random.randrange(-2, 5))
+                for k in range(1, self.random.randrange(most) + 1)]
+
+    def order(self, history, is_whole):
+        """All deeds of a history, or some, each behind the one that made its version."""
+        order, left = [], list(range(1, len(history) + 1))
+        while left and (is_whole or self.random.random() < 0.8):
+            free = [k for k in left if history[k - 1][1] in (0, *order)]
+            order.append(self.random.choice(free))
+            left.remove(order[-1])
+        return order
+
+    def within_scope(self, body):
         more = lets([("k", ("minus", "n", "one")), ("r", ("call", "down", "k"))], ("sum", "r", "n"))
         down = ("let", "t", ("less", "n", "one"), pick("t", ("yes", (), num(0)), ("no", (), more)))
         ones = ("made", "cons", ("one", "ones"))
-        body = self.term(self.random.choice("nnnllllbf"), scope, 9)
         return lets([("one", num(1))], ("letall", (("ones", ones), ("down", ("fun", "n", down))), body))
 
     def look(self, within=3):

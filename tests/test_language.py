@@ -10,6 +10,13 @@ INTERFACE = {
     "terms": {"is_name": ["thing"], "is_term": ["thing"], "is_program": ["thing"], "free_names": ["term"]},
     "plainly": {"plain": ["program", "look", "*", "limit"]},
     "late": {"late": ["program", "look", "*", "limit"], "rows": ["program", "look", "*", "limit"]},
+    "seers": {"seer": ["program", "numbers", "look", "*", "limit"],
+              "seer_rows": ["program", "numbers", "look", "*", "limit"],
+              "least": ["program", "look", "*", "limit"], "all_seers": ["program", "look", "*", "most", "limit"]},
+    "inputs": {"on": ["function", "given", "look", "*", "limit"],
+               "parts_asked": ["function", "given", "look", "*", "limit"]},
+    "surely": {"surely": ["term"], "moved": ["term"]},
+    "shops": {"run": ["shop", "history", "*", "order", "limit"], "ledger": ["shop", "history", "*", "limit"]},
 }
 
 

@@ -1,13 +1,18 @@
 """Points 1 to 3: what holds of the late run and the plain one, over many programs."""
 
 import copy
-import sys
 import unittest
 
+from owedonce.inputs import on, parts_asked
 from owedonce.late import late, rows
 from owedonce.plainly import plain
-from owedonce.terms import is_program, is_term
-from tests.helper import (Chance, lasting, lets, name, num, other_late, other_plain, other_rows, pick, told)
+from owedonce.seers import all_seers, least, seer, seer_rows
+from owedonce.shops import ledger, run
+from owedonce.surely import moved, surely
+from owedonce.terms import free_names, is_program, is_term
+from tests.helper import (
+    Chance, Reckoner, ReckonerTest, lasting, lets, name, num, other_all_seers, other_late, other_least, other_ledger,
+    other_on, other_parts, other_plain, other_rows, other_run, other_seer, other_seer_rows, pick, stripped, told)
 
 SEEDS = range(1500)
 
@@ -30,17 +35,7 @@ def sees_more(look):
     return [(*look, 1), (*look, None, (2,)), tuple(3 if part is None else part for part in look)]
 
 
-class SameTest(unittest.TestCase):
-
-    @classmethod
-    def setUpClass(cls):
-        cls.before = sys.getrecursionlimit()
-        # For the other reckoner: it goes into what is asked by Python's own calls.
-        sys.setrecursionlimit(20000)
-
-    @classmethod
-    def tearDownClass(cls):
-        sys.setrecursionlimit(cls.before)
+class SameTest(ReckonerTest):
 
     def test_told_and_refused_as_by_another_reckoner(self):
         outcomes = set()
@@ -98,6 +93,195 @@ class SameTest(unittest.TestCase):
             first = [told(run, program, look, limit=limit) for run in (plain, late, rows)]
             self.assertEqual((program, look), kept)
             self.assertEqual([told(run, program, look, limit=limit) for run in (plain, late, rows)], first)
+
+
+def small_chances():
+    """Programs, most of them with few lets, looks and limits, and the chance to go on with."""
+    for seed in SEEDS:
+        chance = Chance(seed)
+        program = chance.program(chance.random.choice((2, 3, 5, 9)))
+        if is_program(program):
+            yield chance, program, chance.look(), chance.random.choice((20, 60, 200, 1000))
+
+
+class SeersTest(ReckonerTest):
+
+    def test_told_and_refused_as_by_another_reckoner(self):
+        outcomes = set()
+        for chance, program, look, limit in small_chances():
+            one = told(least, program, look, limit=limit)
+            self.assertEqual(one, told(other_least, program, look, limit))
+            reckoner = Reckoner(True, limit)
+            told(reckoner.run, program, look)
+            numbers = list(reckoner.rows)
+            chance.random.shuffle(numbers)
+            numbers = numbers[chance.random.randrange(2):] + [(chance.random.randrange(1, 12),)]
+            for call, other in ((seer, other_seer), (seer_rows, other_seer_rows)):
+                two = told(call, program, numbers, look, limit=limit)
+                self.assertEqual(two, told(other, program, numbers, look, limit), (program, numbers, look, limit))
+                outcomes.add((call, two[0]))
+            most = chance.random.choice((1, 2, 8, 40))
+            three = told(all_seers, program, look, most=most, limit=limit)
+            if three[0] == "told":
+                three[1].sort(key=lambda way: way[0])
+            self.assertEqual(three, told(other_all_seers, program, look, most, limit), (program, look, most, limit))
+            outcomes |= {(least, one[0]), (all_seers, three[0])}
+        self.assertEqual(len(outcomes), 3 + 4 + 4 + 2)
+
+    def test_late_has_the_least_steps_of_all_seers_and_tells_what_each_tells(self):
+        many = more = 0
+        for _, program, look, _ in small_chances():
+            ways = told(all_seers, program, look)
+            if ways[0] != "told" or told(late, program, look)[0] != "told":
+                # Where late is stuck, each seer is refused.
+                self.assertTrue(ways[0] == "TooMany" or ways[1] == [])
+                continue
+            seen, steps = late(program, look)
+            self.assertEqual({way[1] for way in ways[1]}, {seen})
+            self.assertEqual(min(way[2] for way in ways[1]), steps)
+            numbers, _ = least(program, look)
+            self.assertIn((numbers, seen, steps), ways[1])
+            for way in ways[1]:
+                self.assertTrue(set(numbers) <= set(way[0]))
+                self.assertEqual(seer(program, way[0], look), way[1:])
+            many += 1
+            more += max(way[2] for way in ways[1]) > steps
+        self.assertGreater(many, 300)
+        self.assertGreater(more, 20)
+
+    def test_the_least_seer_and_those_of_all_but_one(self):
+        for _, program, look, _ in small_chances():
+            if told(least, program, look)[0] != "told":
+                continue
+            numbers, steps = least(program, look)
+            self.assertEqual(seer(program, numbers, look), late(program, look))
+            self.assertEqual(seer_rows(program, numbers, look), rows(program, look))
+            self.assertEqual(steps, late(program, look)[1])
+            for at, number in enumerate(numbers):
+                fewer = numbers[:at] + numbers[at + 1:]
+                self.assertEqual(told(seer, program, fewer, look), ("Lost", number))
+
+    def test_rows_of_a_seer_have_all_of_late(self):
+        more = 0
+        for chance, program, look, _ in small_chances():
+            if told(least, program, look)[0] != "told":
+                continue
+            numbers = least(program, look)[0] + [(at,) for at in range(12) if chance.random.random() < 0.5]
+            beyond = told(seer_rows, program, numbers, look)
+            if beyond[0] == "told":
+                of_late = rows(program, look)
+                for row in of_late:
+                    self.assertIn(row, beyond[1])
+                more += len(beyond[1]) > len(of_late)
+        self.assertGreater(more, 30)
+
+
+class InputsTest(ReckonerTest):
+
+    def functions(self):
+        for seed in SEEDS:
+            chance = Chance(seed)
+            kind = chance.random.choice("nlll")
+            function, given = chance.function(kind), chance.given(kind)
+            if is_program(function):
+                yield function, given, chance.look(), chance.random.choice((20, 60, 200, 1000))
+
+    def test_told_and_refused_as_by_another_reckoner(self):
+        outcomes = set()
+        for function, given, look, limit in self.functions():
+            for call, other in ((on, other_on), (parts_asked, other_parts)):
+                one = told(call, function, given, look, limit=limit)
+                self.assertEqual(one, told(other, function, given, look, limit), (function, given, look, limit))
+                outcomes.add((call, one[0]))
+        self.assertEqual(len(outcomes), 2 * 4)
+
+    def test_just_the_told_parts_were_asked(self):
+        many = 0
+        for function, given, look, limit in self.functions():
+            one = told(on, function, given, look, limit=limit)
+            places = told(parts_asked, function, given, look, limit=limit)
+            self.assertEqual(one[0], places[0])
+            if one[0] != "told":
+                self.assertEqual(one, places)
+                continue
+            places = places[1]
+            self.assertEqual(places, sorted(set(places)))
+            self.assertEqual(told(on, function, stripped(given, places), look, limit=limit), one)
+            self.assertEqual(parts_asked(function, stripped(given, places), look, limit=limit), places)
+            for place in places:
+                fewer = [other for other in places if other[:len(place)] != place]
+                self.assertEqual(told(on, function, stripped(given, fewer), look, limit=limit), ("Missing", place))
+                many += 1
+        self.assertGreater(many, 500)
+
+
+class ShopsTest(ReckonerTest):
+
+    def test_told_and_refused_as_by_another_reckoner(self):
+        outcomes = set()
+        for seed in range(700):
+            chance = Chance(seed)
+            shop = chance.shop()
+            if not all(is_program(program) for program in (shop[0], *[pair[1] for pair in shop[1]])):
+                continue
+            history, limit = chance.history(shop), chance.random.choice((20, 200, 1000, 10000))
+            for order in (chance.order(history, True), chance.order(history, False)):
+                one = told(run, shop, history, order=order, limit=limit)
+                self.assertEqual(one, told(other_run, shop, history, order, limit), (shop, history, order, limit))
+                outcomes.add((run, one[0]))
+            numbers = range(1, len(history) + 1)
+            self.assertEqual(told(run, shop, history, limit=limit), told(other_run, shop, history, numbers, limit))
+            one = told(ledger, shop, history, limit=limit)
+            self.assertEqual(one, told(other_ledger, shop, history, limit), (shop, history, limit))
+            outcomes.add((ledger, one[0]))
+        self.assertEqual(len(outcomes), 2 * 3)
+
+
+class HandedInTest(unittest.TestCase):
+
+    CALLS = (
+        (plain, ("program", "look")), (late, ("program", "look")), (rows, ("program", "look")),
+        (least, ("program", "look")), (all_seers, ("program", "look")), (seer, ("program", "numbers", "look")),
+        (seer_rows, ("program", "numbers", "look")), (on, ("function", "given", "look")),
+        (parts_asked, ("function", "given", "look")), (surely, ("term",)), (moved, ("term",)), (free_names, ("term",)),
+        (ledger, ("shop", "history")), (run, ("shop", "history", "order")))
+
+    def things(self, seed):
+        chance = Chance(seed)
+        program, function, shop = chance.program(3), chance.function("l"), chance.shop()
+        history = chance.history(shop)
+        numbers = [(1,), (2,), (3,), (9, 9), (3,), (2, 1)]
+        return {"program": program, "look": chance.look(), "numbers": numbers, "function": function,
+                "given": chance.given("l"), "term": program, "shop": shop, "history": history,
+                "order": chance.order(history, False)}
+
+    def test_nothing_is_changed_and_each_told_list_is_the_askers_own(self):
+        told_ways = 0
+        for seed in range(60):
+            things = self.things(seed)
+            kept = copy.deepcopy(things)
+            for call, names in self.CALLS:
+                given = {one: things[one] for one in names}
+                first = told(call, **given)
+                self.assertEqual(things, kept)
+                again = told(call, **given)
+                wanted = copy.deepcopy(first)
+                self.assertEqual(again, wanted)
+                told_ways += first[0] == "told"
+                spoil(first)
+                self.assertEqual(again, wanted)
+                self.assertEqual(told(call, **given), wanted)
+                self.assertEqual(things, kept)
+        self.assertGreater(told_ways, 300)
+
+
+def spoil(thing):
+    """Change each list in a thing."""
+    if isinstance(thing, (list, tuple)):
+        for one in thing:
+            spoil(one)
+    if isinstance(thing, list):
+        thing.append("more")
 
 
 class NowsTest(unittest.TestCase):
