@@ -1,10 +1,11 @@
 """What several tests need: terms of told sizes, another reckoner to compare with, chance programs."""
 
 import random
+import re
 import sys
 import unittest
 
-from owedonce.errors import Lost, Missing, Stuck, TooMany
+from owedonce.errors import Lost, Missing, NoDeed, NoKept, NoProgram, NoRow, NoText, OwedError, Stuck, TooMany
 
 PADS = ("pa", "pb", "pc", "pd", "pe", "pf", "pg", "ph", "pi", "pj", "pk", "pl")
 
@@ -33,18 +34,17 @@ def pick(word, *branches):
     return ("by", word, tuple(branches))
 
 
+FIELDS = {TooMany: (), NoProgram: (), NoDeed: (), Stuck: ("number",), Lost: ("number",), Missing: ("place",),
+          NoText: ("at",), NoKept: ("name",), NoRow: ("row",)}
+
+
 def told(call, *given, **named):
     """What a call tells, or its refusal with its field."""
     try:
         return ("told", call(*given, **named))
-    except TooMany:
-        return ("TooMany",)
-    except Stuck as stuck:
-        return ("Stuck", stuck.number)
-    except Lost as lost:
-        return ("Lost", lost.number)
-    except Missing as missing:
-        return ("Missing", missing.place)
+    except OwedError as refusal:
+        fields = FIELDS[type(refusal)]
+        return (type(refusal).__name__, *[getattr(refusal, field) for field in fields])
 
 
 def fewest(call, *given, most=1 << 20):
@@ -401,8 +401,165 @@ def other_ledger(shop, history, limit):
     return other_shop(shop, history, range(1, len(history) + 1), limit)[1]
 
 
+def other_past(book, k):
+    return other_past(book, book[0][k - 1][0]) + [k] if k else []
+
+
+def other_asks(book, k):
+    """All that a deed asks, put together until nothing more comes."""
+    rows = {number: asked for number, _, asked in book[1]}
+    found, more = set(), set(book[0][k - 1][2])
+    while not more <= found:
+        found |= more
+        more = {other for number in found for other in rows[number]}
+    return sorted(found)
+
+
+def other_spent(book, order):
+    own = {number: steps for number, steps, _ in book[1]}
+    done, spent = set(), []
+    for k in order:
+        new = set(other_asks(book, k)) - done
+        done |= new
+        spent.append(book[0][k - 1][1] + sum(own[number] for number in new))
+    return spent
+
+
+def other_lacking(book, plan):
+    own = {number: steps for number, steps, _ in book[1]}
+    found = []
+    for k in range(1, len(book[0]) + 1):
+        for number in other_asks(book, k):
+            paid = sum(amount for j in other_past(book, k) for one, amount in plan[j - 1] if one == number)
+            if paid < own[number]:
+                found.append((k, number, paid, own[number]))
+    return found
+
+
+def other_late_plan(book):
+    plan = []
+    for k in range(1, len(book[0]) + 1):
+        before, asked = other_past(book, k)[:-1], other_asks(book, k)
+        pays = []
+        for number, steps, _ in book[1]:
+            lacks = steps - sum(amount for j in before for one, amount in plan[j - 1] if one == number)
+            if number in asked and lacks > 0:
+                pays.append((number, lacks))
+        plan.append(pays)
+    return plan
+
+
+def other_prices(book, plan):
+    return [deed[1] + sum(pair[1] for pair in pays) for deed, pays in zip(book[0], plan)]
+
+
+def stood(name, history):
+    """What each version of a queue or a counter has, by its number: a tuple of what stands, or a count."""
+    versions = [() if name == "queue" else 0]
+    for deed, version, n in history:
+        elder = versions[version]
+        if deed == "put":
+            elder = (*elder, n)
+        if deed == "take":
+            elder = elder[1:]
+        if deed == "more":
+            elder += 1
+        versions.append(elder)
+    return versions
+
+
+def shop_answers(name, history):
+    """The answers of the queue or the counter, by an own reckoning."""
+    answers, versions = [], stood(name, history)
+    for deed, version, n in history:
+        elder = versions[version]
+        if deed == "put":
+            answers.append(len(elder) + 1)
+        elif deed == "more":
+            answers.append(0)
+        elif deed == "digit":
+            answers.append(int(("0" * (n + 1) + bin(elder)[2:])[-1 - n]))
+        else:
+            answers.append(elder[0] if elder else -1)
+    return answers
+
+
+def most_price(name, history, k):
+    """What a rule's price of a deed may be at most."""
+    deed, version, n = history[k - 1]
+    if deed != "digit":
+        return 20
+    count = stood(name, history)[version]
+    return 8 * min(n, len(bin(count)) - 2 if count else 0) + 20
+
+
+def other_written(thing):
+    if isinstance(thing, tuple):
+        return "(" + " ".join(other_written(part) for part in thing) + ")"
+    return str(thing)
+
+
+def other_seen_text(seen):
+    if seen is None:
+        return "-"
+    if seen == ("fun",):
+        return "fun"
+    if isinstance(seen, int):
+        return str(seen)
+    return "(" + seen[0] + " (" + " ".join(other_seen_text(part) for part in seen[1]) + "))"
+
+
+def loosely_read(text):
+    """The tuple of a text, with whatever blanks, words and numbers; None where the brackets don't fit."""
+    stack = [[]]
+    for word in text.replace("(", " ( ").replace(")", " ) ").split(" "):
+        if word == "(":
+            if len(stack) > 200:
+                return None
+            stack.append([])
+        elif word == ")":
+            if len(stack) == 1:
+                return None
+            part = tuple(stack.pop())
+            stack[-1].append(part)
+        elif re.fullmatch(r"[a-z]{1,8}", word):
+            stack[-1].append(word)
+        elif re.fullmatch(r"-?[0-9]{1,19}", word):
+            stack[-1].append(int(word))
+            if abs(int(word)) > 10 ** 18:
+                return None
+        elif word:
+            return None
+    if len(stack) > 1 or len(stack[0]) != 1 or not isinstance(stack[0][0], tuple):
+        return None
+    return stack[0][0]
+
+
+def is_text(text):
+    thing = loosely_read(text)
+    return thing is not None and other_written(thing) == text
+
+
+def begins_text(signs):
+    """Tell whether a text of a tuple begins with these signs, by trying how it could go on."""
+    closing = ")" * (signs.count("(") - signs.count(")"))
+    return signs == "" or any(is_text(signs + more + closing) for more in ("", "a", "1"))
+
+
+def other_read(text):
+    for at in range(len(text)):
+        if not begins_text(text[:at + 1]):
+            raise NoText(at)
+    if not is_text(text):
+        raise NoText(len(text))
+    return loosely_read(text)
+
+
 class Chance:
-    """Programs, functions and shops by chance, always the same ones of a seed; most of them don't stick."""
+    """Programs, functions, shops, ledgers and plans by chance, always the same ones of a seed.
+
+    Most programs don't stick.
+    """
 
     SCOPE = {"one": "n", "ones": "l", "down": "f"}
 
@@ -452,6 +609,70 @@ class Chance:
         names = [deed[0] for deed in shop[1]]
         return [(self.random.choice(names), self.random.randrange(k), self.random.randrange(-2, 5))
                 for k in range(1, self.random.randrange(most) + 1)]
+
+    def own_history(self, shop_name, most=60):
+        """A history of the queue or the counter; some are chains, some trees, some come again to few versions."""
+        history, many = [], self.random.choice((3, 8, 20, most))
+        chain, growing = self.random.random(), self.random.random()
+        held = [self.random.randrange(many) for _ in range(3)]
+        for k in range(1, many + 1):
+            version = self.random.randrange(k)
+            if self.random.random() < chain:
+                version = k - 1
+            elif self.random.random() < 0.5:
+                version = min(self.random.choice(held), k - 1)
+            grows = self.random.random() < growing
+            if shop_name == "queue":
+                deed = "put" if grows else self.random.choice(("take", "take", "first"))
+                n = self.random.choice((0, 1, -1, 17, 10 ** 18, -10 ** 18))
+            else:
+                deed = "more" if grows else "digit"
+                n = self.random.choice((0, 0, 1, 2, 3, 4, 5, 6, 7, 30, 60))
+            history.append((deed, version, n))
+        return history
+
+    def ledger(self, most=8):
+        """A ledger typed by hand: numbers may ask themselves, later ones, one another."""
+        numbers = sorted({tuple(self.random.randrange(4) for _ in range(self.random.randrange(2, 5)))
+                          for _ in range(self.random.randrange(9))})
+        rows = [(number, self.random.choice((0, 1, 2, 3, 7, 10 ** 15)), self.some(numbers)) for number in numbers]
+        deeds = [(self.random.randrange(k), self.random.choice((0, 2, 3, 10 ** 15)), self.some(numbers))
+                 for k in range(1, self.random.randrange(most) + 1)]
+        return deeds, rows
+
+    def some(self, things):
+        part = self.random.choice((0, 0.1, 0.3, 1))
+        return [thing for thing in things if self.random.random() < part]
+
+    def plan(self, book):
+        """A plan near to the late one: some is paid twice, in parts, ahead, beside, or not at all."""
+        plan = [[] for _ in book[0]]
+        for k, pays in enumerate(other_late_plan(book), 1):
+            for number, amount in pays:
+                at = self.random.choice(other_past(book, k)) if self.random.random() < 0.3 else k
+                part = self.random.choice((0, 0, 0, 1, amount // 2))
+                plan[at - 1] += [(number, part), (number, amount - part)]
+        for _ in range(self.random.randrange(3)):
+            if plan:
+                number = tuple(self.random.randrange(-1, 4) for _ in range(self.random.randrange(1, 4)))
+                self.random.choice(plan).append((number, self.random.choice((0, 1, 10 ** 18))))
+        paying = [pays for pays in plan if pays]
+        if paying and self.random.random() < 0.5:
+            pays = self.random.choice(paying)
+            at = self.random.randrange(len(pays))
+            pays[at] = (pays[at][0], max(0, pays[at][1] - 1))
+        for pays in plan:
+            self.random.shuffle(pays)
+        return plan
+
+    def thing(self, within=4):
+        """A thing of words, numbers and tuples."""
+        way = self.random.randrange(4 if within else 2)
+        if way == 0:
+            return self.random.choice(("a", "abcdefgh", "let", "fun", "none", "zz"))
+        if way == 1:
+            return self.random.choice((0, 1, -1, 10, -17, 305, 10 ** 18, -10 ** 18, 10 ** 18 - 1))
+        return tuple(self.thing(within - 1) for _ in range(self.random.randrange(4)))
 
     def order(self, history, is_whole):
         """All deeds of a history, or some, each behind the one that made its version."""

@@ -17,6 +17,12 @@ INTERFACE = {
                "parts_asked": ["function", "given", "look", "*", "limit"]},
     "surely": {"surely": ["term"], "moved": ["term"]},
     "shops": {"run": ["shop", "history", "*", "order", "limit"], "ledger": ["shop", "history", "*", "limit"]},
+    "plans": {"past": ["ledger", "k"], "asks": ["ledger", "k"], "spent": ["ledger", "order"],
+              "lacking": ["ledger", "plan"], "is_let_by": ["ledger", "thing"], "prices": ["ledger", "plan"],
+              "late_plan": ["ledger"]},
+    "twoshops": {"shop": ["name"], "rule": ["name", "history"]},
+    "texts": {"written": ["thing"], "read": ["text"], "seen_text": ["seen"]},
+    "desk": {},
 }
 
 
@@ -42,6 +48,12 @@ class LanguageTest(unittest.TestCase):
             found = {one.name: arguments(one) for one in body if isinstance(one, ast.FunctionDef)}
             for function, given in functions.items():
                 self.assertEqual(found[function], given)
+
+    def test_a_desk_says_by_a_method_of_its_own(self):
+        desks = [one for one in tree_of(PACKAGE / "desk.py").body if isinstance(one, ast.ClassDef) and one.name == "Desk"]
+        found = {one.name: arguments(one) for one in desks[0].body if isinstance(one, ast.FunctionDef)}
+        self.assertEqual(found["say"], ["self", "row"])
+        self.assertEqual(found["__init__"], ["self"])
 
     def test_the_folder_holds_files_of_python_alone(self):
         names = [path.name for path in files() if path.name != "__pycache__"]

@@ -6,10 +6,13 @@ import unittest
 from owedonce.inputs import on, parts_asked
 from owedonce.late import late, rows
 from owedonce.plainly import plain
+from owedonce.plans import asks, is_let_by, lacking, late_plan, past, prices, spent
 from owedonce.seers import all_seers, least, seer, seer_rows
 from owedonce.shops import ledger, run
 from owedonce.surely import moved, surely
 from owedonce.terms import free_names, is_program, is_term
+from owedonce.texts import read, seen_text, written
+from owedonce.twoshops import rule, shop
 from tests.helper import (
     Chance, Reckoner, ReckonerTest, lasting, lets, name, num, other_all_seers, other_late, other_least, other_ledger,
     other_on, other_parts, other_plain, other_rows, other_run, other_seer, other_seer_rows, pick, stripped, told)
@@ -237,6 +240,52 @@ class ShopsTest(ReckonerTest):
         self.assertEqual(len(outcomes), 2 * 3)
 
 
+class PaymentsTest(unittest.TestCase):
+    """What is owed: each branch pays as if it were alone, and that is enough for all of them together."""
+
+    def histories(self):
+        for seed in range(250):
+            chance = Chance(seed)
+            made = chance.shop()
+            if all(is_program(program) for program in (made[0], *[pair[1] for pair in made[1]])):
+                history = chance.history(made, most=chance.random.choice((10, 60)))
+                if chance.random.random() < 0.3:
+                    # One version is taken up again and again.
+                    at = chance.random.randrange(len(history) + 1)
+                    history = history[:at] + [(deed, min(version, at), n) for deed, version, n in history[at:]]
+                tells = told(ledger, made, history, limit=10 ** 6)
+                if tells[0] == "told":
+                    yield chance, made, history, tells[1]
+
+    def test_in_whatever_order_no_more_is_spent_than_the_prices_so_far(self):
+        many = owing = 0
+        for chance, made, history, book in self.histories():
+            plan = late_plan(book)
+            self.assertIs(is_let_by(book, plan), True)
+            each, own = prices(book, plan), run(made, history, limit=10 ** 6)
+            for is_whole in (True, True, False):
+                order = chance.order(history, is_whole)
+                done = run(made, history, order=order, limit=10 ** 6)
+                self.assertEqual([answer for answer, _ in done], [own[k - 1][0] for k in order])
+                self.assertEqual([steps for _, steps in done], spent(book, order))
+                left = 0
+                for k, (_, steps) in zip(order, done):
+                    left += each[k - 1] - steps
+                    self.assertGreaterEqual(left, 0)
+                many += len(order) > 8
+                owing += left > 0
+        self.assertGreater(many, 60)
+        self.assertGreater(owing, 20)
+
+    def test_along_one_past_the_late_plan_pays_just_what_is_spent(self):
+        for _, made, history, book in self.histories():
+            each = prices(book, late_plan(book))
+            for k in range(1, len(history) + 1, 5):
+                way = past(book, k)
+                alone = [steps for _, steps in run(made, history, order=way, limit=10 ** 6)]
+                self.assertEqual([each[j - 1] for j in way], alone)
+
+
 class HandedInTest(unittest.TestCase):
 
     CALLS = (
@@ -244,16 +293,22 @@ class HandedInTest(unittest.TestCase):
         (least, ("program", "look")), (all_seers, ("program", "look")), (seer, ("program", "numbers", "look")),
         (seer_rows, ("program", "numbers", "look")), (on, ("function", "given", "look")),
         (parts_asked, ("function", "given", "look")), (surely, ("term",)), (moved, ("term",)), (free_names, ("term",)),
-        (ledger, ("shop", "history")), (run, ("shop", "history", "order")))
+        (ledger, ("shop", "history")), (run, ("shop", "history", "order")), (past, ("ledger", "k")),
+        (asks, ("ledger", "k")), (spent, ("ledger", "order")), (lacking, ("ledger", "plan")),
+        (is_let_by, ("ledger", "thing")), (prices, ("ledger", "plan")), (late_plan, ("ledger",)), (shop, ("name",)),
+        (written, ("thing",)), (read, ("text",)), (seen_text, ("seen",)))
 
     def things(self, seed):
         chance = Chance(seed)
-        program, function, shop = chance.program(3), chance.function("l"), chance.shop()
-        history = chance.history(shop)
+        program, function, made = chance.program(3), chance.function("l"), chance.shop()
+        history = [(made[1][0][0], 0, 1)] + chance.history(made)
         numbers = [(1,), (2,), (3,), (9, 9), (3,), (2, 1)]
-        return {"program": program, "look": chance.look(), "numbers": numbers, "function": function,
-                "given": chance.given("l"), "term": program, "shop": shop, "history": history,
-                "order": chance.order(history, False)}
+        things = {"program": program, "look": chance.look(), "numbers": numbers, "function": function,
+                  "given": chance.given("l"), "term": program, "shop": made, "history": history,
+                  "order": chance.order(history, False), "name": chance.random.choice(("queue", "counter")),
+                  "text": written(program), "seen": ("c", (None, 3, ("fun",)))}
+        book = ([(version, 2, [(1, 1), (1, 2)]) for _, version, _ in history], [((1, 1), 3, [(1, 2)]), ((1, 2), 1, [])])
+        return {**things, "ledger": book, "k": len(history), "plan": late_plan(book), "thing": late_plan(book)}
 
     def test_nothing_is_changed_and_each_told_list_is_the_askers_own(self):
         told_ways = 0
@@ -273,6 +328,19 @@ class HandedInTest(unittest.TestCase):
                 self.assertEqual(told(call, **given), wanted)
                 self.assertEqual(things, kept)
         self.assertGreater(told_ways, 300)
+
+    def test_of_the_rule(self):
+        for seed in range(20):
+            shop_name = ("queue", "counter")[seed % 2]
+            history = Chance(seed).own_history(shop_name)
+            kept = list(history)
+            first, again = rule(shop_name, history), rule(history=history, name=shop_name)
+            self.assertEqual((history, first), (kept, again))
+            spoil(first)
+            self.assertEqual(rule(shop_name, history), again)
+            # What is done to a history behind the call changes nothing that was told.
+            history.clear()
+            self.assertEqual(rule(shop_name, kept), again)
 
 
 def spoil(thing):
